@@ -464,28 +464,36 @@ func TestFormatDesign(t *testing.T) {
 	}
 }
 
+// changedDesigns calls visit with a design that has one other number, a list that is shorter, or two
+// elements exchanged, for each way to do this.
+func changedDesigns(d impl.Design, others []int, visit func(what string, d impl.Design)) {
+	numbers(&d, func(number reflect.Value) {
+		before := number.Int()
+		for _, other := range others {
+			number.SetInt(int64(other))
+			visit("one number changed", d)
+		}
+		number.SetInt(before)
+	})
+	parts(reflect.ValueOf(&d).Elem(), reflect.Slice, func(list reflect.Value) {
+		whole := list.Interface()
+		for length := range list.Len() {
+			list.SetLen(length)
+			visit("a list made shorter", d)
+			list.Set(reflect.ValueOf(whole))
+		}
+		for i := 1; i < list.Len(); i++ {
+			reflect.Swapper(whole)(i-1, i)
+			visit("two elements exchanged", d)
+			reflect.Swapper(whole)(i-1, i)
+		}
+	})
+}
+
 func TestTextsOfChangedDesigns(t *testing.T) {
 	for _, d := range []impl.Design{driverKinds(), impl.SampleDesign()} {
-		numbers(&d, func(number reflect.Value) {
-			before := number.Int()
-			for _, other := range append(extremes(), 6, 7, 8, 9, 10, 11) {
-				number.SetInt(int64(other))
-				checkText(t, "one number changed", d)
-			}
-			number.SetInt(before)
-		})
-		parts(reflect.ValueOf(&d).Elem(), reflect.Slice, func(list reflect.Value) {
-			whole := list.Interface()
-			for length := range list.Len() {
-				list.SetLen(length)
-				checkText(t, "a list made shorter", d)
-				list.Set(reflect.ValueOf(whole))
-			}
-			for i := 1; i < list.Len(); i++ {
-				reflect.Swapper(whole)(i-1, i)
-				checkText(t, "two elements exchanged", d)
-				reflect.Swapper(whole)(i-1, i)
-			}
+		changedDesigns(d, append(extremes(), 6, 7, 8, 9, 10, 11), func(what string, d impl.Design) {
+			checkText(t, what, d)
 		})
 	}
 }
