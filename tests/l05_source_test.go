@@ -464,35 +464,36 @@ func TestFormatDesign(t *testing.T) {
 	}
 }
 
-// changedDesigns calls visit with a design that has one other number, a list that is shorter, or two
+// eachChange calls visit with a value that has one other number, a list that is shorter, or two
 // elements exchanged, for each way to do this.
-func changedDesigns(d impl.Design, others []int, visit func(what string, d impl.Design)) {
-	numbers(&d, func(number reflect.Value) {
+func eachChange[T any](value T, others []int, visit func(what string, value T)) {
+	whole := reflect.ValueOf(&value).Elem()
+	parts(whole, reflect.Int, func(number reflect.Value) {
 		before := number.Int()
 		for _, other := range others {
 			number.SetInt(int64(other))
-			visit("one number changed", d)
+			visit("one number changed", value)
 		}
 		number.SetInt(before)
 	})
-	parts(reflect.ValueOf(&d).Elem(), reflect.Slice, func(list reflect.Value) {
-		whole := list.Interface()
+	parts(whole, reflect.Slice, func(list reflect.Value) {
+		before := list.Interface()
 		for length := range list.Len() {
 			list.SetLen(length)
-			visit("a list made shorter", d)
-			list.Set(reflect.ValueOf(whole))
+			visit("a list made shorter", value)
+			list.Set(reflect.ValueOf(before))
 		}
 		for i := 1; i < list.Len(); i++ {
-			reflect.Swapper(whole)(i-1, i)
-			visit("two elements exchanged", d)
-			reflect.Swapper(whole)(i-1, i)
+			reflect.Swapper(before)(i-1, i)
+			visit("two elements exchanged", value)
+			reflect.Swapper(before)(i-1, i)
 		}
 	})
 }
 
 func TestTextsOfChangedDesigns(t *testing.T) {
 	for _, d := range []impl.Design{driverKinds(), impl.SampleDesign()} {
-		changedDesigns(d, append(extremes(), 6, 7, 8, 9, 10, 11), func(what string, d impl.Design) {
+		eachChange(d, append(extremes(), 6, 7, 8, 9, 10, 11), func(what string, d impl.Design) {
 			checkText(t, what, d)
 		})
 	}

@@ -965,7 +965,7 @@ func TestFlattenMostCopies(t *testing.T) {
 func TestFlattenOfChangedDesigns(t *testing.T) {
 	flat := 0
 	for _, d := range append(designs(t), driverKinds()) {
-		changedDesigns(d, append(extremes(), 6, 7, 8, 9, 10, 11), func(what string, d impl.Design) {
+		eachChange(d, append(extremes(), 6, 7, 8, 9, 10, 11), func(what string, d impl.Design) {
 			flat += checkFlat(t, what, d)
 		})
 	}

@@ -1078,7 +1078,7 @@ func TestStatesOfChangedModules(t *testing.T) {
 		ins := someInputs(m, 8, pick)
 		st := someState(m, pick)
 		flat := 0
-		changedDesigns(alone(m), append(extremes(), 6, 7, 8, 9, 10, 11), func(what string, d impl.Design) {
+		eachChange(alone(m), append(extremes(), 6, 7, 8, 9, 10, 11), func(what string, d impl.Design) {
 			for _, m := range d.Modules {
 				checkCycle(t, what, m, st, ins[0])
 				checkRun(t, what, m, ins)
@@ -1104,7 +1104,7 @@ func TestInstances(t *testing.T) {
 	pick := picker(13)
 	runs, instances := 0, 0
 	for _, d := range append(designs(t), driverKinds()) {
-		changedDesigns(d, append(upTo(16), -1), func(what string, d impl.Design) {
+		eachChange(d, append(upTo(16), -1), func(what string, d impl.Design) {
 			for param := 1; param <= 4; param++ {
 				for k := range d.Modules {
 					part, _ := impl.InstanceOf(d, k)
