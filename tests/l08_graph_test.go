@@ -543,13 +543,14 @@ func TestNetsWithoutRoots(t *testing.T) {
 	}
 }
 
-// TestNetsThatAreNotValid has one net for each way to be invalid, each of which has roots.
-func TestNetsThatAreNotValid(t *testing.T) {
-	valid := func() impl.Net {
-		return impl.Net{Inputs: 2, Seqs: []impl.Seq{flop(1, 10), ram(7, 2, 4, 6, 8)}, Ands: gates(2, 6, 10, 8), Outs: []int{12, 7}}
-	}
-	checkValidNet(t, "unchanged", valid())
-	cases := map[string]func(n *impl.Net){
+// smallNet returns a valid net with a flip-flop and a memory.
+func smallNet() impl.Net {
+	return impl.Net{Inputs: 2, Seqs: []impl.Seq{flop(1, 10), ram(7, 2, 4, 6, 8)}, Ands: gates(2, 6, 10, 8), Outs: []int{12, 7}}
+}
+
+// invalidNets returns one net for each way to be invalid, each of which has roots.
+func invalidNets() map[string]impl.Net {
+	changes := map[string]func(n *impl.Net){
 		"no number of inputs":        func(n *impl.Net) { n.Inputs = -1 },
 		"too many inputs":            func(n *impl.Net) { n.Inputs = 21 },
 		"too few inputs":             func(n *impl.Net) { n.Inputs = 1 },
@@ -572,9 +573,18 @@ func TestNetsThatAreNotValid(t *testing.T) {
 		"an AND node of itself":      func(n *impl.Net) { n.Ands[0].A = 10 },
 		"an AND node of a later one": func(n *impl.Net) { n.Ands[0].B = 12 },
 	}
-	for what, change := range cases {
-		n := valid()
+	nets := map[string]impl.Net{}
+	for what, change := range changes {
+		n := smallNet()
 		change(&n)
+		nets[what] = n
+	}
+	return nets
+}
+
+func TestNetsThatAreNotValid(t *testing.T) {
+	checkValidNet(t, "unchanged", smallNet())
+	for what, n := range invalidNets() {
 		if netOk(n) {
 			t.Errorf("%s: %v is valid", what, n)
 		}
@@ -673,8 +683,8 @@ func TestLongChains(t *testing.T) {
 	}
 }
 
-// TestAllSmallNets checks all nets of some shapes; the numbers of each one are counted up.
-func TestAllSmallNets(t *testing.T) {
+// eachSmallNet calls visit with all nets of some shapes; the numbers of each one are counted up.
+func eachSmallNet(visit func(n impl.Net)) {
 	shapes := []struct {
 		limits []int
 		net    func(x []int) impl.Net
@@ -689,9 +699,13 @@ func TestAllSmallNets(t *testing.T) {
 	for _, shape := range shapes {
 		x := make([]int, len(shape.limits))
 		for more := true; more; more = countUp(x, shape.limits) {
-			checkValidNet(t, "a small net", shape.net(x))
+			visit(shape.net(x))
 		}
 	}
+}
+
+func TestAllSmallNets(t *testing.T) {
+	eachSmallNet(func(n impl.Net) { checkValidNet(t, "a small net", n) })
 }
 
 // TestSmallNetsOfAnyLiterals checks nets with all literals from -1 to some that are too great.
