@@ -56,6 +56,22 @@ func mark(value reflect.Value) {
 	}
 }
 
+// overwrite marks the elements of all slices within a value, spare capacity included.
+func overwrite(value reflect.Value) {
+	switch value.Kind() {
+	case reflect.Struct:
+		for i := range value.NumField() {
+			overwrite(value.Field(i))
+		}
+	case reflect.Slice:
+		value = value.Slice(0, value.Cap())
+		for i := range value.Len() {
+			overwrite(value.Index(i))
+			mark(value.Index(i))
+		}
+	}
+}
+
 // untouched reports whether two results of roomy are equal, spare capacity included.
 func untouched[T any](a T, b T) bool {
 	return sameWithin(reflect.ValueOf(a), reflect.ValueOf(b))
@@ -139,6 +155,10 @@ func TestMemoryHelpers(t *testing.T) {
 	first[1].B[:2][1] = 4
 	if untouched(first, second) {
 		t.Error("a change of spare capacity is not noticed")
+	}
+	overwrite(reflect.ValueOf(second))
+	if second[0].A[1] == 2 || second[1].B[0] == 3 || !reflect.DeepEqual(first[0].A, value[0].A) {
+		t.Error("overwrite leaves", second, "and", first)
 	}
 	whole := []int{1, 2, 3}
 	if !sharesMemory(pair{whole[:1], whole[1:]}) || !sharesMemory(whole, []pair{{A: whole[2:]}}) {
