@@ -989,6 +989,7 @@ func TestHashingInAllStates(t *testing.T) {
 				}
 			}
 		})
+		checkHash(t, "a small net", n)
 		if !impl.IsHashed(hash) || impl.IsHashed(n) != sameNet(n, hash) {
 			t.Errorf("IsHashed = %v for %v and %v for %v", impl.IsHashed(n), n, impl.IsHashed(hash), hash)
 		}
