@@ -961,23 +961,34 @@ func TestFlatStepTwoMemories(t *testing.T) {
 	checkOutputs(t, "out 1\nin 2\nin 1\nwire 1\nset s3 ~ s0\nmem s1 s3 s2 s0", [][]int{{0, 1}, {0, 0}, {0, 1}, {0, 0}, {0, 0}}, [][]int{{0}, {0}, {1}, {1}, {0}})
 }
 
-// TestAllCycles checks all states and inputs of small modules.
+// smallModules returns flat modules that have few states and inputs.
+func smallModules(t *testing.T) []impl.Module {
+	t.Helper()
+	return []impl.Module{
+		readModule(t, "in 2\nin 1\nin 1\nout 1\nmem s0 s1 s2 s3"),
+		readModule(t, "reg 2 1\nreg 3 5\nin 2\nout 3\nset s0 + s1 s2\nset s1 ? s2.1 - s0 s1 s3\nset s3 ^ s1 s2"),
+		readModule(t, "wire 1\nreg 2 2\nin 1\nout 1\nset s1 + s1 s0\nset s3 = s1 3\nmem s1 s2 s3 s0"),
+		readModule(t, "in 4\nin 4\nout 4\nset s2 - s0 s1"),
+	}
+}
+
+// eachCycle calls visit with all states and inputs of a flat module.
+func eachCycle(m impl.Module, visit func(st impl.WordState, ins []int)) {
+	greatest := greatestState(m)
+	limits := slices.Concat(greatest.Values, greatest.Words)
+	for _, width := range portWidths(m, 0) {
+		limits = append(limits, 1<<width-1)
+	}
+	all := make([]int, len(limits))
+	values, words := len(m.Signals), len(m.Signals)+4*len(m.Mems)
+	for more := true; more; more = countUp(all, limits) {
+		visit(impl.WordState{Values: all[:values], Words: all[values:words]}, all[words:])
+	}
+}
+
 func TestAllCycles(t *testing.T) {
-	for _, lines := range []string{
-		"in 2\nin 1\nin 1\nout 1\nmem s0 s1 s2 s3", "reg 2 1\nreg 3 5\nin 2\nout 3\nset s0 + s1 s2\nset s1 ? s2.1 - s0 s1 s3\nset s3 ^ s1 s2",
-		"wire 1\nreg 2 2\nin 1\nout 1\nset s1 + s1 s0\nset s3 = s1 3\nmem s1 s2 s3 s0", "in 4\nin 4\nout 4\nset s2 - s0 s1",
-	} {
-		m := readModule(t, lines)
-		greatest := greatestState(m)
-		limits := slices.Concat(greatest.Values, greatest.Words)
-		for _, width := range portWidths(m, 0) {
-			limits = append(limits, 1<<width-1)
-		}
-		all := make([]int, len(limits))
-		for more := true; more; more = countUp(all, limits) {
-			values, words := len(m.Signals), len(m.Signals)+4*len(m.Mems)
-			checkCycle(t, lines, m, impl.WordState{Values: all[:values], Words: all[values:words]}, all[words:])
-		}
+	for _, m := range smallModules(t) {
+		eachCycle(m, func(st impl.WordState, ins []int) { checkCycle(t, "a small module", m, st, ins) })
 	}
 }
 
