@@ -421,7 +421,7 @@ func TestExprOfAllValues(t *testing.T) {
 				checkExprOfInputs(t, []impl.Op{operator(kind), zero, one}, a, b)
 				checkExprOfInputs(t, []impl.Op{operator(kind), one, zero}, a, b)
 			}
-			for c := range 4 {
+			for c := range 5 {
 				checkExprOfInputs(t, []impl.Op{operator(impl.OpMux), two, zero, one}, b, c, a)
 			}
 		}
