@@ -502,17 +502,24 @@ func operandsOfNet() [][]int {
 	return [][]int{{0, 0, 0}, {1, 0, 1}, {2, 4, 6}, {3, 3, 2}, {4, 2, 4}, {-1, 2, 2}, {2, 99, 4}, {math.MinInt64, math.MaxInt64, 0}}
 }
 
-func TestHashingOfInvalidNets(t *testing.T) {
-	if _, lit := impl.AddMux(smallNet(), 2, 4, 6); lit != 19 {
-		t.Error("AddMux =", lit, "before the net is changed")
-	}
+// moreInvalidNets returns invalidNets, and nets with the ends of int and with nothing in In.
+func moreInvalidNets() map[string]impl.Net {
 	nets := invalidNets()
 	nets["the least int as Inputs"] = impl.Net{Inputs: math.MinInt64, Outs: []int{0}}
 	nets["the greatest int as Inputs"] = impl.Net{Inputs: math.MaxInt64, Ands: gates(2, 4)}
 	nets["the least int as a literal"] = impl.Net{Inputs: 2, Ands: gates(2, math.MinInt64)}
-	nets["nil as In"] = impl.Net{Inputs: 2, Seqs: []impl.Seq{{Kind: impl.SeqFlop}}}
-	nets["empty In"] = impl.Net{Inputs: 2, Seqs: []impl.Seq{{Kind: impl.SeqRam, In: []int{}}}}
-	for what, n := range nets {
+	nets["the greatest int as a literal"] = impl.Net{Inputs: 2, Ands: gates(math.MaxInt64, 4)}
+	nets["the least int as an output"] = impl.Net{Inputs: 2, Ands: gates(2, 4), Outs: []int{math.MinInt64}}
+	nets["nil as In"] = impl.Net{Inputs: 2, Seqs: []impl.Seq{{Kind: impl.SeqFlop}}, Ands: gates(2, 4)}
+	nets["empty In"] = impl.Net{Inputs: 2, Seqs: []impl.Seq{{Kind: impl.SeqRam, In: []int{}}}, Ands: gates(2, 4)}
+	return nets
+}
+
+func TestHashingOfInvalidNets(t *testing.T) {
+	if _, lit := impl.AddMux(smallNet(), 2, 4, 6); lit != 19 {
+		t.Error("AddMux =", lit, "before the net is changed")
+	}
+	for what, n := range moreInvalidNets() {
 		for _, g := range fourGates() {
 			for _, x := range operandsOfNet() {
 				checkNotAdded(t, what, g, n, x[:g.operands])
